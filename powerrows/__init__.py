@@ -1,0 +1,1 @@
+"""Rows of powers without end over the rests by a prime."""
