@@ -55,5 +55,8 @@ def need_count(many):
 
 def inverse(prime, rest):
     """The rest that, times this one (not 0), leaves 1."""
-    # Every rest but 0 leaves 1 when raised to one less than the prime.
-    return rest ** (prime - 2) % prime
+    # Raised by one less than the prime, every rest but 0 leaves 1: by two less, its inverse.
+    told = 1
+    for turn in range(prime - 2):
+        told = told * rest % prime
+    return told

@@ -63,6 +63,16 @@ class TurnedOut(unittest.TestCase):
                     self.assertEqual(put_in(prime, row, told), sign(length))
                     self.assertEqual(put_in(prime, told, row), sign(length))
 
+    def test_each_rest_at_place_1(self):
+        for prime in PRIMES:
+            for rest in range(1, prime):
+                for row in rows(prime, 5, first=[0], second=[rest]) + [[0, rest]]:
+                    told = turned_out(prime, row)
+                    self.assertTrue(all(0 <= number < prime for number in told))
+                    self.assertEqual(told[0], 0)
+                    self.assertEqual(told[1] * rest % prime, 1)
+                    self.assertEqual(slow_put_in(prime, row, told), sign(len(row)))
+
     def test_rows_that_cannot_be(self):
         for prime in PRIMES:
             for rest in range(prime):

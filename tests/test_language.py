@@ -66,6 +66,18 @@ def defined(tree):
     return names + [node.targets[0].id for node in tree.body if isinstance(node, ast.Assign)]
 
 
+def wrong_powers(tree):
+    """The rows with a power whose exponent is not a literal from 0 to 64 (L27)."""
+    rows = []
+    for node in ast.walk(tree):
+        if isinstance(node, (ast.BinOp, ast.AugAssign)) and isinstance(node.op, ast.Pow):
+            exponent = node.right if isinstance(node, ast.BinOp) else node.value
+            literal = isinstance(exponent, ast.Constant) and type(exponent.value) is int
+            if not literal or not 0 <= exponent.value <= 64:
+                rows.append(node.lineno)
+    return rows
+
+
 class Language(unittest.TestCase):
     def test_the_folder_holds_nothing_but_files_of_the_program(self):
         self.assertTrue((PACKAGE / "__init__.py").is_file())
@@ -141,8 +153,19 @@ class Language(unittest.TestCase):
                         self.assertNotIsInstance(node.value, float)
                         if isinstance(node.value, str):
                             self.assertNotIn("%", node.value)
-                    if isinstance(node, ast.BinOp) and isinstance(node.op, ast.Pow):
-                        self.assertFalse(isinstance(node.left, ast.Constant))
+
+    def test_powers(self):
+        for path in FILES:
+            with self.subTest(path.name):
+                self.assertEqual(wrong_powers(ast.parse(read(path))), [])
+
+    def test_which_powers_are_wrong(self):
+        for power in ["a ** 0", "a ** 2", "2 ** 64", "a **= 3", "f(**more)", "(a + b) ** 3 % p", "a * b"]:
+            self.assertEqual(wrong_powers(ast.parse(power)), [], power)
+        wrong = ["a ** b", "2 ** n", "a ** (p - 2)", "a ** (p - 2) % p", "a ** -1", "a ** 65", "a ** True", "a ** 2.0"]
+        wrong += ["a **= n", "a **= 65", "a **= -2", "a ** b ** 2", "a ** (1 + 1)", "[a ** b for a in c]", "f(a ** b)"]
+        for power in wrong:
+            self.assertEqual(wrong_powers(ast.parse(power)), [1], power)
 
     def test_calls(self):
         for path in FILES:

@@ -36,6 +36,13 @@ class Raised(unittest.TestCase):
                     for many in [2, 3, 7, 19, 20, 21]:
                         self.assertEqual(raised(prime, row, many), slow_raised(prime, row, many))
 
+    def test_each_rest_at_place_0(self):
+        for prime in PRIMES:
+            for rest in range(prime):
+                for row in rows(prime, 4, first=[rest], many=1):
+                    for many in [2, prime - 1, prime, prime + 1]:
+                        self.assertEqual(raised(prime, row, many), raised_by_bits(prime, row, many))
+
     def test_each_count_in_a_long_run(self):
         for prime in [2, 3, 5]:
             for length in LENGTHS:
@@ -79,6 +86,15 @@ class Root(unittest.TestCase):
                 else:
                     self.assertEqual(refusal(root, prime, [first]), NoRoot)
                     self.assertEqual(refusal(root, prime, [first, 1, 0]), NoRoot)
+
+    def test_each_place_0_of_a_longer_row(self):
+        for prime in PRIMES[1:]:
+            for half in range(1, prime):
+                for row in rows(prime, 5, first=[half * half % prime]):
+                    told = root(prime, row)
+                    self.assertEqual(told[0], min(half, prime - half))
+                    self.assertTrue(all(0 <= number < prime for number in told))
+                    self.assertEqual(slow_times(prime, told, told), row)
 
     def test_multiplied_by_itself_comes_to_the_row(self):
         for prime in PRIMES[1:]:

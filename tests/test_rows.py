@@ -78,6 +78,14 @@ class Parted(unittest.TestCase):
                 self.assertEqual(told[0] * rest % prime, 1)
                 self.assertEqual(told[1:], [0, 0])
 
+    def test_by_each_rest_ahead_of_others(self):
+        for prime in PRIMES:
+            for rest in range(1, prime):
+                for one, other in zip(rows(prime, 6), rows(prime, 6, first=[rest])):
+                    told = parted(prime, one, other)
+                    self.assertTrue(all(0 <= number < prime for number in told))
+                    self.assertEqual(slow_times(prime, told, other), one)
+
     def test_place_0_of_the_other_must_not_be_0(self):
         for prime in PRIMES:
             for length in LENGTHS:
