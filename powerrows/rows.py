@@ -43,3 +43,14 @@ def quotient(prime, one, other):
         known = sum([part[first] * other[place - first] for first in range(place)])
         part.append((one[place] - known) * turned % prime)
     return part
+
+
+def first_places(row, many):
+    """So many places of a row that is 0 behind the end of the list."""
+    return (row + [0] * many)[:many]
+
+
+def whole_product(prime, one, other):
+    """The two rows, 0 behind their ends, multiplied, as far as there may be a rest but 0."""
+    many = len(one) + len(other)
+    return product(prime, first_places(one, many), first_places(other, many))

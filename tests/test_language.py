@@ -8,7 +8,7 @@ from pathlib import Path
 
 PACKAGE = Path(__file__).resolve().parent.parent / "powerrows"
 FILES = sorted(path for path in PACKAGE.rglob("*") if path.is_file() and "__pycache__" not in path.parts)
-# The interface, file by file, as far as it has landed (L16).
+# The interface, file by file (L16).
 INTERFACE = {
     "errors.py": [
         "PowerError", "BadPrime", "BadRow", "BadCount", "BadRule", "BadPlaces", "BadTerms", "NoPart", "NoInside",
@@ -17,6 +17,10 @@ INTERFACE = {
     "rows.py": ["plus", "times", "parted"],
     "inside.py": ["put_in", "turned_out"],
     "roots.py": ["raised", "root"],
+    "rules.py": ["opened", "far_place", "alike"],
+    "finding.py": ["tapped"],
+    "own.py": ["grown"],
+    "answers.py": ["Answer", "Alike", "Unlike", "Ruled", "Barred"],
 }
 BUILTINS = set(
     "len range enumerate zip min max sum abs sorted reversed int str bool bytes list tuple dict set frozenset "
@@ -41,6 +45,12 @@ BARRED_NAMES = set(
 BARRED_NODES = (
     ast.Global, ast.AsyncFunctionDef, ast.AsyncFor, ast.AsyncWith, ast.Await, ast.Import, ast.Div, ast.Set, ast.SetComp,
 )
+# What LANGUAGE.md allows with many rules, and the program does without.
+DONE_WITHOUT = (
+    ast.GeneratorExp, ast.Lambda, ast.Try, ast.With, ast.Yield, ast.YieldFrom, ast.Nonlocal, ast.Match, ast.Starred,
+    ast.NamedExpr, ast.Delete, ast.Assert, ast.AnnAssign,
+)
+ITERATED_AT_ONCE = set("zip enumerate reversed range items keys values iter".split())
 
 
 def read(path):
@@ -76,6 +86,19 @@ def wrong_powers(tree):
             if not literal or not 0 <= exponent.value <= 64:
                 rows.append(node.lineno)
     return rows
+
+
+def imported(name):
+    """The files of the package from which this one imports."""
+    tree = ast.parse(read(PACKAGE / name))
+    return [node.module.split(".")[1] + ".py" for node in tree.body if isinstance(node, ast.ImportFrom)]
+
+
+def called(node):
+    """The bare name of what is called, or None."""
+    if not isinstance(node, ast.Call):
+        return None
+    return node.func.id if isinstance(node.func, ast.Name) else node.func.attr
 
 
 class Language(unittest.TestCase):
@@ -153,6 +176,59 @@ class Language(unittest.TestCase):
                         self.assertNotIsInstance(node.value, float)
                         if isinstance(node.value, str):
                             self.assertNotIn("%", node.value)
+
+    def test_what_the_program_does_without(self):
+        for path in FILES:
+            tree = ast.parse(read(path))
+            with self.subTest(path.name):
+                for node in ast.walk(tree):
+                    self.assertNotIsInstance(node, DONE_WITHOUT)
+                    if isinstance(node, (ast.FunctionDef, ast.ClassDef)):
+                        self.assertEqual(node.decorator_list, [])
+                    if isinstance(node, ast.FunctionDef):
+                        self.assertEqual(node.args.defaults + node.args.kwonlyargs + node.args.posonlyargs, [])
+                        self.assertIsNone(node.args.vararg or node.args.kwarg)
+
+    def test_what_is_iterated_at_once_is_not_stored(self):
+        for path in FILES:
+            tree = ast.parse(read(path))
+            with self.subTest(path.name):
+                for node in ast.walk(tree):
+                    if isinstance(node, (ast.Assign, ast.Return)):
+                        self.assertNotIn(called(node.value), ITERATED_AT_ONCE)
+
+    def test_no_two_files_import_from_each_other(self):
+        for path in FILES:
+            reached, left = [], imported(path.name)
+            while left:
+                name = left.pop()
+                if name not in reached:
+                    reached.append(name)
+                    left += imported(name)
+            self.assertNotIn(path.name, reached)
+
+    def test_methods_and_attributes(self):
+        methods, stored, asked = set(), set(), set()
+        for path in FILES:
+            tree = ast.parse(read(path))
+            for node in ast.walk(tree):
+                if isinstance(node, ast.ClassDef):
+                    names = [each.name for each in node.body if isinstance(each, ast.FunctionDef)]
+                    self.assertEqual(len(names), len(set(names)))
+                    methods |= set(names)
+                elif isinstance(node, ast.Attribute):
+                    (stored if isinstance(node.ctx, ast.Store) else asked).add(node.attr)
+        self.assertEqual(methods & stored, set())
+        self.assertLessEqual(asked, methods | stored | METHODS)
+        for name in (methods | stored) - {"__init__"}:
+            for kind in (int, str, bytes, list, tuple, dict, set):
+                self.assertNotIn(name, dir(kind))
+
+    def test_the_methods_of_the_interface_stand_in_their_classes(self):
+        tree = ast.parse(read(PACKAGE / "answers.py"))
+        bodies = {node.name: node.body for node in tree.body if isinstance(node, ast.ClassDef)}
+        for name in ["Alike", "Unlike", "Ruled", "Barred"]:
+            self.assertIn("shows", [node.name for node in bodies[name] if isinstance(node, ast.FunctionDef)])
 
     def test_powers(self):
         for path in FILES:

@@ -8,7 +8,7 @@ from tests.samples import (
     LENGTHS, NO_COUNTS, NO_PRIMES, PRIMES, no_rows, raised_by_bits, refusal, rows, slow_raised, slow_times, unit,
 )
 
-GREAT = [10 ** 20, 10 ** 20 - 1, 10 ** 20 + 7, 97 ** 30, 2 ** 200]
+GREAT = [10 ** 20, 10 ** 20 + 7, 2 ** 200]
 
 
 class Raised(unittest.TestCase):
@@ -54,7 +54,7 @@ class Raised(unittest.TestCase):
 
     def test_so_often_that_no_loop_gets_there(self):
         for prime in PRIMES:
-            for length in [1, 2, prime, prime + 1, 20]:
+            for length in [1, prime, prime + 1, 20]:
                 if length > 20:
                     continue
                 for row in rows(prime, length, many=1) + rows(prime, length, first=[0], many=1):
